@@ -12,7 +12,10 @@ const (
 )
 
 // Journal is a list of records on a disk.
-type Journal struct {
+type Journal struct{ journal }
+
+// journal is what a Journal has. Offices embed this one, so that nobody else can add records to theirs.
+type journal struct {
 	disk *Disk
 	used int // how many sectors the records have
 	size int // how many records there are
@@ -23,7 +26,7 @@ func Open(d *Disk) (*Journal, []string, api.Errno) {
 	if e := d.refuses(); e != api.OK {
 		return nil, nil, e
 	}
-	j := &Journal{disk: d}
+	j := &Journal{journal{disk: d}}
 	var records []string
 	for j.used < len(d.sectors) && d.sectors[j.used][markAt] != 0 {
 		s, e := d.record(j.used)
@@ -72,11 +75,33 @@ func (d *Disk) record(sector int) (string, api.Errno) {
 	return s, api.OK
 }
 
-// Append adds a record at the end; it is durable then.
+// Append adds a record at the end.
 func (j *Journal) Append(s string) api.Errno {
-	switch {
-	case j == nil:
+	if j == nil {
 		return api.ErrNil
+	}
+	return j.add(s)
+}
+
+// Sync makes all records durable; those of this journal are so already.
+func (j *Journal) Sync() api.Errno {
+	if j == nil {
+		return api.ErrNil
+	}
+	return j.disk.Flush()
+}
+
+// Len returns the number of records.
+func (j *Journal) Len() int {
+	if j == nil {
+		return 0
+	}
+	return j.size
+}
+
+// add adds a record at the end; it is durable then.
+func (j *journal) add(s string) api.Errno {
+	switch {
 	case len(s) > api.MaxRecord:
 		return api.ErrLimit
 	case j.disk.Down():
@@ -97,7 +122,7 @@ func (j *Journal) Append(s string) api.Errno {
 }
 
 // write makes blocks durable in the sectors from one on.
-func (j *Journal) write(sector int, blocks []block) api.Errno {
+func (j *journal) write(sector int, blocks []block) api.Errno {
 	for i := range blocks {
 		if e := j.disk.Write(sector+i, blocks[i][:]); e != api.OK {
 			return e
@@ -107,20 +132,4 @@ func (j *Journal) write(sector int, blocks []block) api.Errno {
 		return api.OK
 	}
 	return j.disk.Flush()
-}
-
-// Sync makes all records durable; those of this journal are so already.
-func (j *Journal) Sync() api.Errno {
-	if j == nil {
-		return api.ErrNil
-	}
-	return j.disk.Flush()
-}
-
-// Len returns the number of records.
-func (j *Journal) Len() int {
-	if j == nil {
-		return 0
-	}
-	return j.size
 }

@@ -9,7 +9,7 @@ import (
 
 // Office is an office that holds tokens; its journal has a record of each of its operations.
 type Office struct {
-	*Journal
+	journal
 	state
 }
 
@@ -27,7 +27,7 @@ func Start(d *Disk, id int) (o *Office, e api.Errno) {
 	if e != api.OK {
 		return nil, e
 	}
-	o = &Office{Journal: j, state: state{id: id, held: map[int]string{}, lost: map[int]bool{}}}
+	o = &Office{journal: j.journal, state: state{id: id, held: map[int]string{}, lost: map[int]bool{}}}
 	for _, record := range records {
 		o.follow(record)
 	}
@@ -52,7 +52,7 @@ func (o *Office) perform(x operation) api.Errno {
 	if e := o.refuses(x); e != api.OK {
 		return e
 	}
-	if e := o.Append(x.text()); e != api.OK {
+	if e := o.add(x.text()); e != api.OK {
 		return e
 	}
 	o.apply(x)

@@ -106,6 +106,33 @@ func TestStrangeRecords(t *testing.T) {
 	}
 }
 
+// G14: records that offices write, but none in this order.
+func TestImpossibleRecords(t *testing.T) {
+	good := recordsOf(t, 0, enter(7, "ab", "note"), change(7, "cd", ""), ship(1, "", 7), hear("bag 1 0 1\n9 3\n1 2\n", ""), burn("x", 9), hear("got 1 0 1\n", "y"), enter(8, "", ""), handOut("", 8))
+	same(t, "how many", len(good), 8)
+	refuses := func(indices ...int) {
+		t.Helper()
+		var records []string
+		for _, i := range indices {
+			records = append(records, good[i])
+		}
+		o, e := startOf(t, 0, records)
+		same(t, fmt.Sprint("Start with ", indices), fmt.Sprint(o == nil, e), "true 71")
+	}
+	for _, again := range []int{2, 3, 4, 5, 6} {
+		refuses(0, 1, 2, 3, 4, 5, 6, again)
+	}
+	refuses(0, 0)
+	refuses(1)
+	refuses(2)
+	refuses(4)
+	refuses(5)
+	refuses(7)
+	refuses(0, 2, 1)
+	refuses(0, 5, 2)
+	refuses(0, 6, 7, 7)
+}
+
 // Whatever records there are, Start ends, and an office that it returns can go on.
 func TestMutatedRecords(t *testing.T) {
 	good := recordsOf(t, 3, enter(7, "ab", "note"), enter(8, "", ""), change(8, "xyz", ""), ship(1, "", 7), burn("x", 8), hear("bag 1 3 1\n9 3\n1 2\n", ""), hear("got 1 3 1\n", "y"), leaveNote("z"), handOut("", 9))
