@@ -141,16 +141,20 @@ func TestTwentyLots(t *testing.T) {
 		for _, line := range firstLines() {
 			same(t, line, d.Publish(0, line), api.OK)
 		}
-		for _, line := range []string{"unit a 1", "value a 1", "unit b 1", "value b 1"} {
+		for _, line := range []string{"unit a 1", "value a 1", "unit b 1", "value b 1", "unit c 3", "term c 1 5"} {
 			same(t, line, d.Money(0, line), api.OK)
 		}
-		same(t, "Arrive", d.Arrive(0, 1, api.Thing{Id: 7, Layers: []api.Layer{{Goods: []api.Amount{{Unit: "a", N: 50}}, Pieces: []api.Piece{piece(1, "ann lee"), piece(2, "ayton")}}}}), api.OK)
+		same(t, "Arrive", d.Arrive(0, 1, api.Thing{Id: 7, Layers: []api.Layer{{Goods: []api.Amount{{Unit: "a", N: 50}, {Unit: "c", N: 1}}, Pieces: []api.Piece{piece(1, "ann lee"), piece(2, "ayton")}}}}), api.OK)
 		_, e := d.Work(0, 7)
 		same(t, "Work", e, api.OK)
 		for range 19 + extra {
 			same(t, "convert", d.Money(0, "convert 1 b 1"), api.OK)
 		}
+		same(t, "Advance", d.Advance(5), api.OK)
+		before := fmt.Sprint(d.Trial(0))
 		same(t, "Ship", d.Ship(0, 7, 1), []api.Errno{api.OK, api.ErrLimit}[extra])
+		// What is due is forfeited by a command that has no error.
+		same(t, "Ship", fmt.Sprint(d.Trial(0)) == before, extra == 1)
 	}
 }
 

@@ -29,6 +29,8 @@ func someLine(r *rand.Rand, day int) string {
 	n := func() int { return 1 + r.Intn(4) }
 	return pick(r,
 		fmt.Sprintf("people %d redirect %d %d 0 %d 0 %d 0", day, 1+r.Intn(50), n(), n(), day),
+		fmt.Sprintf("people %d redirect %d %d 0 %d 5 %d 0", day, 1+r.Intn(50), n(), n(), day),
+		fmt.Sprintf("people %d live %d 5 0 0", day, n()),
 		fmt.Sprintf("people %d death %d %d", day, n(), day),
 		fmt.Sprintf("people %d heir %d %d %d 0", day, n(), n(), day),
 		fmt.Sprintf("people %d refuse %d 0 %d %d 0", day, n(), r.Intn(4), day),

@@ -277,3 +277,90 @@ func TestMoneyLines(t *testing.T) {
 	same(t, "no records", len(d.Journal(0)), 13)
 	same(t, "no office", d.Money(1, ""), api.ErrArg)
 }
+
+// A thing is kept if the redirections lead to nobody, or to a place that there is not; otherwise it goes where they lead.
+func TestRoutes(t *testing.T) {
+	for _, x := range []struct {
+		lines  []string
+		person int // to whom it goes, if anybody
+	}{
+		{nil, 1},
+		{[]string{"people 0 redirect 5 1 2 4 4 0 0"}, 4},
+		{[]string{"people 0 live 4 9 0 0", "people 0 redirect 5 1 2 4 9 0 0"}, 0},
+		{[]string{"people 0 live 4 9 0 0", "people 0 redirect 5 1 2 4 9 0 0", "place 0 found 9 1 bar"}, 4},
+		{[]string{"people 0 death 1 1"}, 0},
+		{[]string{"people 0 death 1 1", "people 0 heir 1 4 1 0"}, 4},
+		{[]string{"people 0 redirect 5 1 2 4 4 0 0", "people 0 redirect 6 4 4 1 2 0 0"}, 0},
+	} {
+		for kind := range uint8(2) {
+			d := furnished(t, 1, openRules)
+			for _, line := range x.lines {
+				same(t, line, d.Publish(0, line), api.OK)
+			}
+			same(t, "Advance", d.Advance(2), api.OK)
+			thing := api.Thing{Id: 7, Layers: []api.Layer{{Pieces: []api.Piece{piece(1+3*kind, "ann lee"), piece(2+3*kind, "ayton")}, Goods: []api.Amount{{Unit: "ring", N: 1}}}}}
+			same(t, "Arrive", d.Arrive(0, 1, thing), api.OK)
+			var v api.Verdict
+			for range 3 {
+				var e api.Errno
+				v, e = d.Work(0, 7)
+				same(t, "Work", e, api.OK)
+			}
+			same(t, "the verdict", v.Kind, api.VerDeliver+kind)
+			same(t, "the person", v.Who.Person, 1)
+			l := d.Journal(0)
+			if x.person == 0 {
+				equal(t, "the thing is kept", l[len(l)-1], api.Record{Seq: len(l) - 1, Day: 2, Kind: api.RecKeep, Room: 1, Thing: 7, Salt: 8 * (len(l) - 1)})
+				equal(t, "Where", d.Where(7), api.Site{Kind: api.SiteOffice, Room: 1})
+				continue
+			}
+			records(t, d, 0, 0,
+				api.Record{Day: 2, Kind: api.RecDeliver + kind, Room: 1, Thing: 7, Person: x.person, Place: v.Place},
+				api.Record{Day: 2, Kind: api.RecMoney, Room: 1, Thing: 7, Person: x.person, Verdict: api.WhyPay, Goods: []api.Amount{{Unit: "ring", N: 1}}})
+			equal(t, "Where", d.Where(7), api.Site{Kind: api.SiteDelivered + kind})
+		}
+	}
+}
+
+// A thing that comes back before its first bag was acknowledged is shipped with what it has then.
+func TestSecondBags(t *testing.T) {
+	d := furnished(t, 2, openRules)
+	ok := func(list ...api.Errno) {
+		t.Helper()
+		for _, e := range list {
+			same(t, "the error", e, api.OK)
+		}
+	}
+	units := func(office int) string {
+		text := ""
+		for _, line := range d.Trial(office) {
+			text += fmt.Sprintf("%d %d %d %s; ", line.Account.Kind, line.Account.Id, line.N, line.Unit)
+		}
+		return text
+	}
+	x := letter(7, "ann lee", "ayton")
+	x.Layers[1].Goods = []api.Amount{{Unit: "crown", N: 5}}
+	ok(d.Arrive(0, 1, x))
+	for range 2 {
+		_, e := d.Work(0, 7)
+		ok(e)
+	}
+	ok(d.Ship(0, 7, 1), d.Offer(0), d.Carry(0, 1, 0), d.Lose(1, 0, 0), d.Unpack(1, 7, 2))
+	same(t, "the first bag", units(0), "1 0 -5 crown; 7 1 5 crown; ")
+	ok(d.Ship(1, 7, 0), d.Offer(1), d.Carry(1, 0, 0), d.Unpack(0, 7, 3), d.Money(0, "convert 2 mark 2"))
+	same(t, "it is back", units(0), "1 0 -10 crown; 2 7 3 crown; 2 7 3 mark; 6 0 2 crown; 6 0 -3 mark; 7 1 5 crown; ")
+	ok(d.Ship(0, 7, 1), d.Offer(0))
+	same(t, "the second bag", units(0), "1 0 -10 crown; 6 0 2 crown; 6 0 -3 mark; 7 1 5 crown; 7 2 3 crown; 7 2 3 mark; ")
+	ok(d.Carry(0, 1, 2)) // behind an acknowledgement and the first bag
+	same(t, "the lots at the door", units(1), "1 0 -5 crown; 7 1 5 crown; ")
+	ok(d.Unpack(1, 7, 4))
+	same(t, "the lots that are received", units(1), "1 0 -8 crown; 1 0 -3 mark; 2 7 3 crown; 2 7 3 mark; 7 1 5 crown; ")
+	ok(d.Carry(1, 0, 0))
+	same(t, "the second bag is acknowledged", units(0), "1 0 -7 crown; 1 0 3 mark; 6 0 2 crown; 6 0 -3 mark; 7 1 5 crown; ")
+	ok(d.Crash(0, nil), d.Carry(0, 1, 1), d.Carry(1, 0, 0))
+	same(t, "the first bag is acknowledged", units(0), "1 0 -2 crown; 1 0 3 mark; 6 0 2 crown; 6 0 -3 mark; ")
+	ok(d.Carry(0, 1, 0))
+	same(t, "the bag of the office 1 is acknowledged", units(1), "1 0 -3 crown; 1 0 -3 mark; 2 7 3 crown; 2 7 3 mark; ")
+	same(t, "no more", d.Carry(0, 1, 0), api.ErrNone)
+	same(t, "Audit", answerOf(t, d, 7), api.AnswerRight)
+}

@@ -169,6 +169,17 @@ func TestPaid(t *testing.T) {
 		strings.Repeat("ok\n", 15)+"verdict 3 0 0 2 0\nok\nverdict 1 1 2 0 0\npaid 2\n38 crown\n2 gold coin\nerror 5\ntrial 6\n1 0 -40 crown\n1 0 -3 gold coin\n3 1 38 crown\n3 1 2 gold coin\n4 0 2 crown\n4 0 1 gold coin\n")
 }
 
+// What a crash keeps, also in numbers with a minus sign, is what Crash is told.
+func TestCrashes(t *testing.T) {
+	for calls := range 12 {
+		for _, keep := range []string{"", strings.Repeat(" 64", 20), strings.Repeat(" -64", 20), " 64 -64 64", " -1 64"} {
+			script := fmt.Sprintf("desk 1 1000 0\nstop 0 %d\nclaim 0 1 7 1\ncrash 0%s\njournal 0\n", calls, keep)
+			want, _, _ := interpret(script)
+			runs(t, script, want)
+		}
+	}
+}
+
 // A script may have 20000 bytes.
 func TestLongScripts(t *testing.T) {
 	runs(t, strings.Repeat("\n", 20000), "")
